@@ -1,0 +1,1 @@
+"""Oddrounds: sorting a row by parallel exchanges of neighbours."""

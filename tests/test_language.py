@@ -1,0 +1,152 @@
+"""Rules of the language subset that can be seen in the files of the package.
+
+These tests cover the rules that are easy to break by accident; they do not
+replace reading LANGUAGE.md.
+"""
+
+import ast
+import builtins
+import pathlib
+import re
+import unittest
+
+FOLDER = pathlib.Path(__file__).parent.parent / "oddrounds"
+FILES = sorted(FOLDER.rglob("*.py"))
+TREES = {path: ast.parse(path.read_text()) for path in FILES}
+
+ALLOWED_BUILTINS = (
+    "len range enumerate zip min max sum abs sorted reversed int str bool bytes list tuple dict set "
+    "frozenset isinstance ord repr any all divmod iter next Exception ValueError TypeError KeyError "
+    "IndexError LookupError ZeroDivisionError ArithmeticError OverflowError RuntimeError "
+    "NotImplementedError AttributeError StopIteration NotImplemented super property staticmethod "
+    "classmethod"
+).split()
+BARRED_WORDS = (
+    "type typing typing_extensions enum Enum IntEnum StrEnum Flag IntFlag Generic Protocol ABC ABCMeta "
+    "namedtuple NamedTuple TypedDict TYPE_CHECKING abstractmethod"
+).split()
+BARRED_PARTS = ("dataclass", "overload", "contextmanager")
+BARRED_NAMES = "register mro elements open input law version_info with_traceback add_note".split()
+BARRED_STATEMENTS = (
+    ast.Global, ast.AsyncFunctionDef, ast.AsyncFor, ast.AsyncWith, ast.Await, ast.Import, ast.Div,
+)
+
+
+def nodes():
+    for path, tree in TREES.items():
+        for node in ast.walk(tree):
+            yield path.name, node
+
+
+def bound_names():
+    """Yield all names that the package gives to something."""
+    for file, node in nodes():
+        if isinstance(node, (ast.FunctionDef, ast.ClassDef)):
+            yield file, node.name
+        elif isinstance(node, ast.arg):
+            yield file, node.arg
+        elif isinstance(node, ast.Name) and isinstance(node.ctx, ast.Store):
+            yield file, node.id
+        elif isinstance(node, ast.Attribute) and isinstance(node.ctx, ast.Store):
+            yield file, node.attr
+        elif isinstance(node, ast.ExceptHandler) and node.name is not None:
+            yield file, node.name
+
+
+def imported_modules(tree):
+    return [node.module for node in tree.body if isinstance(node, ast.ImportFrom)]
+
+
+class FilesTest(unittest.TestCase):
+    def test_the_folder_contains_python_files_only(self):
+        for path in FOLDER.rglob("*"):
+            if "__pycache__" not in path.parts:
+                self.assertTrue(path.is_file() and re.fullmatch(r"[a-z0-9_]+\.py", path.name), path)
+
+    def test_characters(self):
+        for path in FILES:
+            self.assertIsNone(re.search(rb"[^ -~\n]", path.read_bytes()), path)
+
+    def test_sizes(self):
+        for path in FILES:
+            lines = path.read_text().splitlines()
+            self.assertLessEqual(len(lines), 399, path)
+            self.assertLessEqual(max([len(line) for line in lines]), 120, path)
+        for file, node in nodes():
+            if isinstance(node, ast.FunctionDef):
+                self.assertLessEqual(node.end_lineno - node.lineno + 1, 40, (file, node.name))
+
+    def test_barred_words(self):
+        for path in FILES:
+            text = path.read_text()
+            for word in BARRED_WORDS:
+                self.assertIsNone(re.search(rf"\b{word}\b", text), (path, word))
+            for part in BARRED_PARTS:
+                self.assertNotIn(part, text)
+
+
+class ImportsTest(unittest.TestCase):
+    def test_imports_name_the_file_that_defines_the_name(self):
+        for file, node in nodes():
+            if isinstance(node, ast.ImportFrom):
+                self.assertEqual(node.level, 0, file)
+                package, module = node.module.split(".")
+                self.assertEqual(package, "oddrounds", file)
+                tree = TREES[FOLDER / f"{module}.py"]
+                defined = [part.name for part in tree.body if hasattr(part, "name")]
+                for part in tree.body:
+                    if isinstance(part, ast.Assign):
+                        defined.append(part.targets[0].id)
+                for name in node.names:
+                    self.assertIn(name.name, defined, file)
+
+    def test_imports_stand_at_the_top(self):
+        for path, tree in TREES.items():
+            kinds = [isinstance(part, ast.ImportFrom) for part in tree.body]
+            start = 1 if ast.get_docstring(tree) is not None else 0
+            many = len(imported_modules(tree))
+            self.assertTrue(all(kinds[start:start + many]), path)
+
+    def test_no_files_import_each_other(self):
+        wanted = {f"oddrounds.{path.stem}": imported_modules(tree) for path, tree in TREES.items()}
+        while wanted:
+            free = [name for name in wanted if not [other for other in wanted[name] if other in wanted]]
+            self.assertTrue(free, wanted)
+            for name in free:
+                del wanted[name]
+
+
+class CodeTest(unittest.TestCase):
+    def test_statements(self):
+        for file, node in nodes():
+            self.assertNotIsInstance(node, BARRED_STATEMENTS, file)
+
+    def test_names_are_plain(self):
+        for file, name in bound_names():
+            plain = not name.startswith("_") or re.fullmatch(r"__[a-z]+__", name) is not None
+            self.assertTrue(plain and name not in BARRED_NAMES, (file, name))
+
+    def test_no_name_of_a_builtin_is_given_away(self):
+        for file, name in bound_names():
+            if not name.startswith("__"):
+                self.assertFalse(hasattr(builtins, name), (file, name))
+
+    def test_only_listed_builtins_are_used(self):
+        for file, node in nodes():
+            if isinstance(node, ast.Name) and hasattr(builtins, node.id):
+                self.assertIn(node.id, ALLOWED_BUILTINS, file)
+
+    def test_constants(self):
+        for file, node in nodes():
+            if isinstance(node, ast.Constant):
+                self.assertNotIsInstance(node.value, (float, complex), file)
+                if isinstance(node.value, str):
+                    self.assertNotIn("%", node.value, file)
+
+    def test_is_stands_only_beside_none_true_and_false(self):
+        for file, node in nodes():
+            if isinstance(node, ast.Compare):
+                for sign, right in zip(node.ops, node.comparators):
+                    if isinstance(sign, (ast.Is, ast.IsNot)):
+                        self.assertIsInstance(right, ast.Constant, file)
+                        self.assertIn(right.value, (None, True, False), file)
