@@ -4,10 +4,15 @@ from oddrounds.bounds import MAX_KEY, MAX_PLACES
 from oddrounds.errors import NoThreshold
 
 
+def is_plain_integer(value):
+    """Return whether value is an integer."""
+    # A bool is an int for Python, but not an integer for this package.
+    return isinstance(value, int) and not isinstance(value, bool)
+
+
 def is_integer_between(value, low, high):
     """Return whether value is an integer from low to high."""
-    # A bool is an int for Python, but not an integer for this package.
-    return isinstance(value, int) and not isinstance(value, bool) and low <= value <= high
+    return is_plain_integer(value) and low <= value <= high
 
 
 def is_key(value):
@@ -63,10 +68,15 @@ def thresholds(row):
     return tuple(sorted(row)[:-1])
 
 
+def is_in_row(row, value):
+    """Return whether value is a key of the row."""
+    # True == 1, so that `in` alone would accept a bool.
+    return is_plain_integer(value) and value in row
+
+
 def is_threshold(row, value):
     """Return whether value is a threshold of the row."""
-    # True == 1, so that `in` alone would accept a bool.
-    return is_key(value) and value in thresholds(row)
+    return is_in_row(row, value) and value != max(row)
 
 
 def light_places(row, threshold):

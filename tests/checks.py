@@ -17,10 +17,12 @@ BIG = 10 ** 39 + 7
 SORTED_24 = tuple(range(24))
 REVERSED_24 = tuple(range(23, -1, -1))
 MIXED_24 = tuple((5 * place + 3) % 24 * 10 ** 10 for place in range(24))
+SHUFFLED_23 = (19, 2, 11, 21, 6, 0, 15, 22, 9, 3, 17, 12, 5, 20, 1, 14, 8, 18, 4, 10, 16, 7, 13)
+SHUFFLED_24 = (*[3 * key for key in SHUFFLED_23], 31)
 SAMPLE_ROWS = (
     (0,), (7,), (MAX_KEY,), (1, 2), (2, 1), (0, MAX_KEY), (MAX_KEY, 0),
     (50, 10, 30), (3, 1, 2), (5, 1, 4, 2, 3), (4, 3, 2, 1), (1, 0, 3, 2),
-    SORTED_24, REVERSED_24, MIXED_24,
+    SORTED_24, REVERSED_24, MIXED_24, SHUFFLED_23, SHUFFLED_24,
 )
 
 

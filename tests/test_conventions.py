@@ -2,16 +2,54 @@
 
 import copy
 
-from oddrounds.errors import NoThreshold
+from oddrounds.delays import arrivals, better_start, certificate, certificate_holds, critical_keys
+from oddrounds.delays import delays, exchange_path, exchange_path_holds, is_within, late_keys
+from oddrounds.delays import needed_rounds, threshold_rounds, threshold_table, travel_bound, waits
+from oddrounds.errors import NoIndex, NoKey, NoPlace, NoThreshold
+from oddrounds.patterns import is_pattern, light_arrival, light_before, light_place, light_total
+from oddrounds.patterns import pattern_after, pattern_of, pattern_rounds
+from oddrounds.places import exchange_round, last_move, moves_of, path_of, place_after, row_after
+from oddrounds.rounds import after_round, after_rounds, compared_places, count_exchanges
+from oddrounds.rounds import exchanged_places, history
 from oddrounds.rows import inversions, is_key, is_row, light_places, mirror, ranks, row_error
 from oddrounds.rows import thresholds
 from tests.checks import BIG, OTHER_VALUES, SAMPLE_ROWS, ExactCase, exact
 
-VALUE_FUNCTIONS = (is_key, is_row, row_error)
-ROW_FUNCTIONS = (ranks, mirror, inversions, thresholds)
+VALUE_FUNCTIONS = (is_key, is_row, row_error, is_pattern)
+ROW_FUNCTIONS = (ranks, mirror, inversions, thresholds, better_start, travel_bound)
+START_FUNCTIONS = (needed_rounds, threshold_table, critical_keys)
+ROUNDS_FUNCTIONS = (
+    exchanged_places, after_round, after_rounds, history, count_exchanges, late_keys, certificate,
+    row_after,
+)
+THRESHOLD_FUNCTIONS = (waits, delays, arrivals, threshold_rounds)
+KEY_FUNCTIONS = (path_of, last_move, moves_of)
+PATTERNS = ((1, 2), (0, 2, 1), (7,), (3, 1, 4, 1, 5), (0, 10 ** 11, 2, 3))
 VALUES = (
-    *OTHER_VALUES, *SAMPLE_ROWS, 0, BIG,
-    ([1], {"a": 2}), [(1, 2), [3]], (1, [2], 3), {"row": (3, 1, 2)},
+    *OTHER_VALUES, *SAMPLE_ROWS, 0, BIG, ("sorted",), ["sorted"], ("late", 1, 2), ("late", [1], 2),
+    ([1], {"a": 2}), [(1, 2), [3]], (1, [2], 3), {"row": (3, 1, 2)}, ((2, 1), (1, 2)),
+    ([2, 1], (1, 2)), ((2, 1), {"a": [1]}),
+)
+# No value of VALUES but 0 is a key of this row, an index or a place of this pattern.
+ROW = (0, 5)
+PATTERN = (0, 1)
+# Each call passes one value, with the error that it raises for all values but 0.
+REJECTING_CALLS = (
+    (NoThreshold, lambda value: light_places(ROW, value)),
+    (NoThreshold, lambda value: waits(ROW, 0, value)),
+    (NoThreshold, lambda value: delays(ROW, 0, value)),
+    (NoThreshold, lambda value: arrivals(ROW, 0, value)),
+    (NoThreshold, lambda value: threshold_rounds(ROW, 0, value)),
+    (NoThreshold, lambda value: pattern_of(ROW, value)),
+    (NoKey, lambda value: place_after(ROW, 0, value, 1)),
+    (NoKey, lambda value: path_of(ROW, 0, value)),
+    (NoKey, lambda value: last_move(ROW, 0, value)),
+    (NoKey, lambda value: moves_of(ROW, 0, value)),
+    (NoKey, lambda value: exchange_round(ROW, 0, value, 5)),
+    (NoKey, lambda value: exchange_round(ROW, 0, 5, value)),
+    (NoIndex, lambda value: light_place(PATTERN, 0, value, 1)),
+    (NoIndex, lambda value: light_arrival(PATTERN, 0, value)),
+    (NoPlace, lambda value: light_before(PATTERN, 0, value, 1)),
 )
 
 
@@ -29,32 +67,78 @@ class ConventionsTest(ExactCase):
             for value in VALUES:
                 self.assert_steady(call, value)
 
-    def test_functions_of_a_row(self):
-        for call in ROW_FUNCTIONS:
-            for row in SAMPLE_ROWS:
-                self.assert_steady(call, row)
+    def test_checking_functions_of_any_value(self):
+        for value in VALUES:
+            for rounds in (0, 1, 2):
+                self.assert_steady(certificate_holds, (3, 1, 2), 0, rounds, value)
+            self.assert_steady(exchange_path_holds, (1, 2), (2, 1), value)
 
-    def test_light_places(self):
+    def test_functions_of_a_row(self):
+        for row in SAMPLE_ROWS:
+            for call in ROW_FUNCTIONS:
+                self.assert_steady(call, row)
+            for start in (0, 1):
+                for call in START_FUNCTIONS:
+                    self.assert_steady(call, row, start)
+                for call in ROUNDS_FUNCTIONS:
+                    self.assert_steady(call, row, start, 1)
+                    self.assert_steady(call, row, start, 100)
+
+    def test_functions_of_a_threshold(self):
         for row in SAMPLE_ROWS:
             for threshold in thresholds(row):
                 self.assert_steady(light_places, row, threshold)
+                for call in THRESHOLD_FUNCTIONS:
+                    self.assert_steady(call, row, 0, threshold)
+        self.assert_steady(pattern_of, (5, 1, 4, 2), 2)
+
+    def test_functions_of_a_key(self):
+        for row in SAMPLE_ROWS:
+            for key in (min(row), max(row)):
+                for call in KEY_FUNCTIONS:
+                    self.assert_steady(call, row, 0, key)
+                self.assert_steady(place_after, row, 0, key, 3)
+                self.assert_steady(exchange_round, row, 0, key, row[0])
+
+    def test_functions_of_two_rows(self):
+        for row in SAMPLE_ROWS:
+            for call in (is_within, exchange_path):
+                self.assert_steady(call, mirror(row), row)
+                self.assert_steady(call, tuple(sorted(row)), row)
+
+    def test_functions_of_a_pattern(self):
+        for pattern in PATTERNS:
+            self.assert_steady(light_total, pattern)
+            for start in (0, 1):
+                self.assert_steady(pattern_rounds, pattern, start)
+                self.assert_steady(pattern_after, pattern, start, 2)
+                self.assert_steady(light_before, pattern, start, 1, 2)
+                if light_total(pattern) > 0:
+                    self.assert_steady(light_place, pattern, start, 0, 2)
+                    self.assert_steady(light_arrival, pattern, start, 0)
+
+    def test_functions_of_a_number_of_places(self):
+        for n in (1, 2, 24):
+            self.assert_steady(compared_places, n, 0, 1)
 
     def test_a_rejected_value_does_not_change(self):
-        for value in VALUES:
-            if value != 0:
-                before = exact(value)
-                for attempt in range(2):
-                    with self.assertRaises(NoThreshold) as caught:
-                        light_places((0, 5), value)
-                    self.assertEqual(exact(value), before)
-                    self.assertEqual(exact(caught.exception.value), before)
+        for error_class, call in REJECTING_CALLS:
+            for value in VALUES:
+                if exact(value) != exact(0):
+                    before = exact(value)
+                    for attempt in range(2):
+                        with self.assertRaises(error_class) as caught:
+                            call(value)
+                        self.assertEqual(exact(value), before)
+                        (kept,) = vars(caught.exception).values()
+                        self.assertIs(kept, value)
 
     def test_a_call_after_an_error_is_as_before(self):
-        row = (5, 1, 4, 2, 3)
-        before = light_places(row, 2)
-        with self.assertRaises(NoThreshold):
-            light_places(row, [2])
-        self.assert_exact(light_places(row, 2), before)
+        for error_class, call in REJECTING_CALLS:
+            before = exact(call(0))
+            with self.assertRaises(error_class):
+                call([0])
+            self.assertEqual(exact(call(0)), before)
 
     def test_a_later_change_of_an_argument_has_no_effect(self):
         value = ([1], 2)

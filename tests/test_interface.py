@@ -20,6 +20,49 @@ FUNCTIONS = {
         "thresholds": ["row"],
         "light_places": ["row", "threshold"],
     },
+    "rounds": {
+        "compared_places": ["n", "start", "number"],
+        "exchanged_places": ["row", "start", "number"],
+        "after_round": ["row", "start", "number"],
+        "after_rounds": ["row", "start", "rounds"],
+        "history": ["row", "start", "rounds"],
+        "count_exchanges": ["row", "start", "rounds"],
+    },
+    "delays": {
+        "waits": ["row", "start", "threshold"],
+        "delays": ["row", "start", "threshold"],
+        "arrivals": ["row", "start", "threshold"],
+        "threshold_rounds": ["row", "start", "threshold"],
+        "needed_rounds": ["row", "start"],
+        "threshold_table": ["row", "start"],
+        "better_start": ["row"],
+        "travel_bound": ["row"],
+        "critical_keys": ["row", "start"],
+        "late_keys": ["row", "start", "rounds"],
+        "certificate": ["row", "start", "rounds"],
+        "certificate_holds": ["row", "start", "rounds", "value"],
+        "is_within": ["one", "other"],
+        "exchange_path": ["one", "other"],
+        "exchange_path_holds": ["one", "other", "value"],
+    },
+    "places": {
+        "place_after": ["row", "start", "key", "rounds"],
+        "row_after": ["row", "start", "rounds"],
+        "path_of": ["row", "start", "key"],
+        "last_move": ["row", "start", "key"],
+        "moves_of": ["row", "start", "key"],
+        "exchange_round": ["row", "start", "one", "other"],
+    },
+    "patterns": {
+        "is_pattern": ["value"],
+        "pattern_of": ["row", "threshold"],
+        "light_total": ["pattern"],
+        "pattern_rounds": ["pattern", "start"],
+        "light_place": ["pattern", "start", "index", "rounds"],
+        "light_arrival": ["pattern", "start", "index"],
+        "light_before": ["pattern", "start", "place", "rounds"],
+        "pattern_after": ["pattern", "start", "rounds"],
+    },
 }
 
 CLASSES = {
@@ -42,7 +85,7 @@ class InterfaceTest(unittest.TestCase):
         self.assertTrue((FOLDER / "__init__.py").is_file())
 
     def test_modules_can_be_imported(self):
-        for module in ("errors", "bounds", "rows"):
+        for module in ("errors", "bounds", *FUNCTIONS):
             importlib.import_module(f"oddrounds.{module}")
 
     def test_functions_are_defined_in_their_file(self):

@@ -27,6 +27,18 @@ BARRED_WORDS = (
 ).split()
 BARRED_PARTS = ("dataclass", "overload", "contextmanager")
 BARRED_NAMES = "register mro elements open input law version_info with_traceback add_note".split()
+ALLOWED_METHODS = (
+    "append clear copy count endswith extend find get index insert isalnum isalpha isdigit islower "
+    "isspace isupper items join keys ljust lower lstrip partition pop remove replace reverse rfind "
+    "rjust rpartition rsplit rstrip setdefault split splitlines startswith strip update upper values "
+    "zfill bit_length"
+).split()
+BUILTIN_KEYWORDS = {
+    "sorted": ("key", "reverse"), "min": ("key", "default"), "max": ("key", "default"),
+    "sum": ("start",), "enumerate": ("start",), "zip": ("strict",),
+}
+ITERATED_AT_ONCE = ("zip", "enumerate", "reversed", "range")
+ITERATING = ("list", "tuple", "dict", "sorted", "sum", "any", "all", "enumerate", "zip", "min", "max", "len")
 BARRED_STATEMENTS = (
     ast.Global, ast.AsyncFunctionDef, ast.AsyncFor, ast.AsyncWith, ast.Await, ast.Import, ast.Div,
 )
@@ -150,3 +162,60 @@ class CodeTest(unittest.TestCase):
                     if isinstance(sign, (ast.Is, ast.IsNot)):
                         self.assertIsInstance(right, ast.Constant, file)
                         self.assertIn(right.value, (None, True, False), file)
+
+    def test_no_local_name_is_that_of_an_import_or_a_class(self):
+        for path, tree in TREES.items():
+            taken = [part.name for part in tree.body if isinstance(part, ast.ClassDef)]
+            for part in tree.body:
+                if isinstance(part, ast.ImportFrom):
+                    taken.extend([name.name for name in part.names])
+            for node in ast.walk(tree):
+                if isinstance(node, ast.arg):
+                    self.assertNotIn(node.arg, taken, path)
+                if isinstance(node, ast.Name) and isinstance(node.ctx, ast.Store):
+                    self.assertNotIn(node.id, taken, path)
+
+    def test_names_at_module_level_are_bound_once(self):
+        for path, tree in TREES.items():
+            names = []
+            for part in tree.body:
+                if isinstance(part, ast.ImportFrom):
+                    names.extend([name.asname or name.name for name in part.names])
+                elif isinstance(part, ast.Assign):
+                    names.append(part.targets[0].id)
+                elif hasattr(part, "name"):
+                    names.append(part.name)
+            self.assertEqual(len(names), len(set(names)), path)
+
+    def test_only_listed_methods_of_builtin_values_are_called(self):
+        own = [node.name for file, node in nodes() if isinstance(node, ast.FunctionDef)]
+        for file, node in nodes():
+            if isinstance(node, ast.Call) and isinstance(node.func, ast.Attribute):
+                self.assertIn(node.func.attr, (*ALLOWED_METHODS, *own), file)
+
+    def test_keywords_of_builtins(self):
+        for file, node in nodes():
+            if isinstance(node, ast.Call) and isinstance(node.func, ast.Name):
+                if hasattr(builtins, node.func.id):
+                    for keyword in node.keywords:
+                        allowed = BUILTIN_KEYWORDS.get(node.func.id, ())
+                        self.assertIn(keyword.arg, allowed, (file, node.lineno))
+
+    def test_ranges_and_the_like_are_iterated_at_once(self):
+        allowed = []
+        for file, node in nodes():
+            if isinstance(node, (ast.For, ast.comprehension)):
+                allowed.append(node.iter)
+            elif isinstance(node, ast.Call) and isinstance(node.func, ast.Name):
+                if node.func.id in ITERATING and node.args:
+                    allowed.extend(node.args if node.func.id == "zip" else node.args[:1])
+        for file, node in nodes():
+            if isinstance(node, ast.Call) and isinstance(node.func, ast.Name):
+                if node.func.id in ITERATED_AT_ONCE:
+                    self.assertTrue([part for part in allowed if part is node], (file, node.lineno))
+
+    def test_exponents_are_literal(self):
+        for file, node in nodes():
+            if isinstance(node, ast.BinOp) and isinstance(node.op, ast.Pow):
+                self.assertIsInstance(node.right, ast.Constant, file)
+                self.assertTrue(0 <= node.right.value <= 64, file)

@@ -58,3 +58,6 @@ class LightPlacesTest(ExactCase):
             with self.assertRaises(NoThreshold) as caught:
                 light_places((50, 10, 30), value)
             self.assertIs(caught.exception.value, value)
+
+    def test_keys_somewhat_beyond_the_limit_are_no_error(self):
+        self.assert_exact(light_places((MAX_KEY + 2, MAX_KEY + 1), MAX_KEY + 1), (1,))

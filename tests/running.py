@@ -1,0 +1,108 @@
+"""Reference for the tests: rounds that are run pair after pair, and definitions."""
+
+
+def pairs_of_round(n, start, number):
+    """Return the places p of the pairs (p, p + 1), counted in steps of two."""
+    first = 0 if (start + number) % 2 == 1 else 1
+    return list(range(first, n - 1, 2))
+
+
+def run_round(items, start, number):
+    """Return the items after one round, and how many pairs were exchanged."""
+    items = list(items)
+    exchanged = 0
+    for p in pairs_of_round(len(items), start, number):
+        if items[p] > items[p + 1]:
+            items[p], items[p + 1] = items[p + 1], items[p]
+            exchanged += 1
+    return tuple(items), exchanged
+
+
+def run_rows(items, start, rounds):
+    """Return the list of the items and of what they are after each round."""
+    rows = [tuple(items)]
+    for number in range(1, rounds + 1):
+        rows.append(run_round(rows[-1], start, number)[0])
+    return rows
+
+
+def run_exchanges(items, start, rounds):
+    """Return how many pairs are exchanged in all these rounds."""
+    total = 0
+    for number in range(1, rounds + 1):
+        items, exchanged = run_round(items, start, number)
+        total += exchanged
+    return total
+
+
+def is_sorted(items):
+    return list(items) == sorted(items)
+
+
+def run_needed(items, start):
+    """Return after how many rounds the items are sorted for the first time."""
+    number = 0
+    while not is_sorted(items):
+        number += 1
+        items = run_round(items, start, number)[0]
+    return number
+
+
+def last_change(items):
+    """Return the greatest index at which an item differs from the one before it, or 0."""
+    return max([at for at in range(1, len(items)) if items[at] != items[at - 1]], default=0)
+
+
+def heaviness(row, threshold):
+    """Return 0 for each light key of the row and 1 for each heavy one."""
+    return tuple(0 if key <= threshold else 1 for key in row)
+
+
+def zeros(marks):
+    return [place for place, mark in enumerate(marks) if mark == 0]
+
+
+def defined_wait(n, start, place):
+    """Return the wait of a light key, as the document defines it."""
+    return 0 if place == 0 or place - 1 in pairs_of_round(n, start, 1) else 1
+
+
+def defined_delays(row, start, threshold):
+    """Return a list of (place, delay) of all light keys, as the document defines the delay."""
+    places = zeros(heaviness(row, threshold))
+    m = len(places)
+    found = []
+    for j, p in enumerate(places):
+        delay = None if p == j else p - j + defined_wait(len(row), start, p) + m - 1 - j
+        found.append((p, delay))
+    return found
+
+
+def defined_late(row, start, rounds):
+    """Return all (threshold, place) with a delay greater than rounds, ascending."""
+    found = []
+    for threshold in sorted(row)[:-1]:
+        for place, delay in defined_delays(row, start, threshold):
+            if delay is not None and delay > rounds:
+                found.append((threshold, place))
+    return tuple(found)
+
+
+def expanded(pattern):
+    """Return the heavy (1) and light (0) places of a pattern, one by one."""
+    items = []
+    for at, length in enumerate(pattern):
+        items.extend([1 - at % 2] * length)
+    return items
+
+
+def runs_of(items):
+    """Return the lengths of the runs of heavy (1) and light (0) places, a heavy run first."""
+    runs = [0]
+    last = 1
+    for item in items:
+        if item != last:
+            runs.append(0)
+            last = item
+        runs[-1] += 1
+    return tuple(runs)
