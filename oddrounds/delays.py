@@ -30,6 +30,11 @@ def light_delays(places, start):
     return tuple(found)
 
 
+def greatest_delay(places, start):
+    """Return the greatest delay of light keys at these places, 0 if all of them are home."""
+    return max([delay for delay in light_delays(places, start) if delay is not None], default=0)
+
+
 def delays(row, start, threshold):
     """Return the tuple of the delays of the light keys, None for each one that is home.
 
@@ -62,8 +67,7 @@ def threshold_rounds(row, start, threshold):
 
     Raises NoThreshold(threshold) if threshold is not a threshold of the row.
     """
-    found = delays(row, start, threshold)
-    return max([delay for delay in found if delay is not None], default=0)
+    return greatest_delay(light_places(row, threshold), start)
 
 
 def needed_rounds(row, start):

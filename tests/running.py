@@ -106,3 +106,49 @@ def runs_of(items):
             last = item
         runs[-1] += 1
     return tuple(runs)
+
+
+def weights_of(marks):
+    """Return 1 for each letter H of marks and 0 for each letter L."""
+    return tuple(1 if letter == "H" else 0 for letter in marks)
+
+
+def run_marks(marks, start, rounds):
+    """Return the list of the marks and of what they are after each round."""
+    rows = run_rows(weights_of(marks), start, rounds)
+    return ["".join("H" if weight else "L" for weight in row) for row in rows]
+
+
+def place_list(row):
+    """Return the places of the keys of a row, the smallest key first."""
+    return tuple(row.index(key) for key in sorted(row))
+
+
+def run_lossy(row, start, losses, rounds):
+    """Return the list of the row and of the rows after each round without the lost pairs."""
+    rows = [tuple(row)]
+    for number in range(1, rounds + 1):
+        items = list(rows[-1])
+        for p in pairs_of_round(len(items), start, number):
+            if (number, p) not in losses and items[p] > items[p + 1]:
+                items[p], items[p + 1] = items[p + 1], items[p]
+        rows.append(tuple(items))
+    return rows
+
+
+def lossy_needed(row, start, losses):
+    """Return after how many rounds without the lost pairs the row is sorted for the first time."""
+    rows = run_lossy(row, start, losses, 100 + len(row))
+    return [is_sorted(items) for items in rows].index(True)
+
+
+def defined_lag(one, other):
+    """Return the smallest (threshold, place) up to which one has fewer light keys, or None."""
+    lags = []
+    for threshold in sorted(one)[:-1]:
+        for place in range(len(one)):
+            beginnings = (one[:place + 1], other[:place + 1])
+            in_one, in_other = [len([k for k in keys if k <= threshold]) for keys in beginnings]
+            if in_one < in_other:
+                lags.append((threshold, place))
+    return min(lags, default=None)

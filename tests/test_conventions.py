@@ -2,10 +2,17 @@
 
 import copy
 
+from oddrounds.counting import count_marks, count_rows, is_marks, light_limits, marks_after, marks_at
+from oddrounds.counting import marks_index, marks_of, marks_rounds, most_marks_rounds, most_rounds
+from oddrounds.counting import next_marks, row_at, row_number, rounds_counts, rows_within
 from oddrounds.delays import arrivals, better_start, certificate, certificate_holds, critical_keys
 from oddrounds.delays import delays, exchange_path, exchange_path_holds, is_within, late_keys
 from oddrounds.delays import needed_rounds, threshold_rounds, threshold_table, travel_bound, waits
-from oddrounds.errors import NoIndex, NoKey, NoPlace, NoThreshold
+from oddrounds.errors import BadLosses, BadMarks, NoIndex, NoKey, NoPlace, NoThreshold
+from oddrounds.losses import are_losses, first_lag, harmful_losses, idle_pairs, needed_with_losses
+from oddrounds.losses import round_losses, run_with_losses
+from oddrounds.origins import count_early_rows, count_origins, early_rows, first_disorder, greatest_age
+from oddrounds.origins import origin_at, origin_index, origins_of
 from oddrounds.patterns import is_pattern, light_arrival, light_before, light_place, light_total
 from oddrounds.patterns import pattern_after, pattern_of, pattern_rounds
 from oddrounds.places import exchange_round, last_move, moves_of, path_of, place_after, row_after
@@ -15,12 +22,12 @@ from oddrounds.rows import inversions, is_key, is_row, light_places, mirror, ran
 from oddrounds.rows import thresholds
 from tests.checks import BIG, OTHER_VALUES, SAMPLE_ROWS, ExactCase, exact
 
-VALUE_FUNCTIONS = (is_key, is_row, row_error, is_pattern)
+VALUE_FUNCTIONS = (is_key, is_row, row_error, is_pattern, is_marks)
 ROW_FUNCTIONS = (ranks, mirror, inversions, thresholds, better_start, travel_bound)
-START_FUNCTIONS = (needed_rounds, threshold_table, critical_keys)
+START_FUNCTIONS = (needed_rounds, threshold_table, critical_keys, harmful_losses)
 ROUNDS_FUNCTIONS = (
     exchanged_places, after_round, after_rounds, history, count_exchanges, late_keys, certificate,
-    row_after,
+    row_after, first_disorder, count_origins, round_losses, idle_pairs,
 )
 THRESHOLD_FUNCTIONS = (waits, delays, arrivals, threshold_rounds)
 KEY_FUNCTIONS = (path_of, last_move, moves_of)
@@ -50,6 +57,17 @@ REJECTING_CALLS = (
     (NoIndex, lambda value: light_place(PATTERN, 0, value, 1)),
     (NoIndex, lambda value: light_arrival(PATTERN, 0, value)),
     (NoPlace, lambda value: light_before(PATTERN, 0, value, 1)),
+    (NoThreshold, lambda value: marks_of(ROW, value)),
+    (NoIndex, lambda value: marks_at(1, 1, 0, 0, value)),
+    (NoIndex, lambda value: row_at(1, 0, 0, value)),
+    (NoIndex, lambda value: origin_at((0,), 0, 1, value)),
+)
+# Errors without the value, for all values of VALUES but those in the tuple.
+PLAIN_CALLS = (
+    (BadMarks, (), lambda value: marks_index(value, 0, 1)),
+    (BadMarks, (), lambda value: next_marks(value, 0, 1)),
+    (BadLosses, ((),), lambda value: run_with_losses(ROW, 0, value, 1)),
+    (BadLosses, ((),), lambda value: needed_with_losses(ROW, 0, value)),
 )
 
 
@@ -72,6 +90,8 @@ class ConventionsTest(ExactCase):
             for rounds in (0, 1, 2):
                 self.assert_steady(certificate_holds, (3, 1, 2), 0, rounds, value)
             self.assert_steady(exchange_path_holds, (1, 2), (2, 1), value)
+            self.assert_steady(are_losses, (3, 1, 2), 0, value)
+            self.assert_steady(origin_index, (1, 3, 2), 0, 1, value)
 
     def test_functions_of_a_row(self):
         for row in SAMPLE_ROWS:
@@ -88,6 +108,7 @@ class ConventionsTest(ExactCase):
         for row in SAMPLE_ROWS:
             for threshold in thresholds(row):
                 self.assert_steady(light_places, row, threshold)
+                self.assert_steady(marks_of, row, threshold)
                 for call in THRESHOLD_FUNCTIONS:
                     self.assert_steady(call, row, 0, threshold)
         self.assert_steady(pattern_of, (5, 1, 4, 2), 2)
@@ -102,7 +123,7 @@ class ConventionsTest(ExactCase):
 
     def test_functions_of_two_rows(self):
         for row in SAMPLE_ROWS:
-            for call in (is_within, exchange_path):
+            for call in (is_within, exchange_path, first_lag):
                 self.assert_steady(call, mirror(row), row)
                 self.assert_steady(call, tuple(sorted(row)), row)
 
@@ -120,6 +141,35 @@ class ConventionsTest(ExactCase):
     def test_functions_of_a_number_of_places(self):
         for n in (1, 2, 24):
             self.assert_steady(compared_places, n, 0, 1)
+            self.assert_steady(most_rounds, n, 0)
+            self.assert_steady(most_marks_rounds, n, 1, 0)
+            self.assert_steady(light_limits, n, 1, 0, 5)
+            self.assert_steady(count_marks, n, 1, 0, 5)
+            self.assert_steady(marks_at, n, 1, 0, 5, 0)
+        for n in (1, 2, 9):
+            self.assert_steady(count_rows, n, 0, 2)
+            self.assert_steady(row_at, n, 0, 2, 0)
+            self.assert_steady(rows_within, n, 0, 2)
+            self.assert_steady(rounds_counts, n, 0)
+
+    def test_functions_of_marks(self):
+        for marks in ("L", "HLLH", "LH" * 12):
+            self.assert_steady(marks_after, marks, 0, 2)
+            self.assert_steady(marks_rounds, marks, 1)
+            for call in (marks_index, next_marks):
+                self.assert_steady(call, marks, 1, 100)
+
+    def test_functions_of_a_short_row(self):
+        for row in ((7,), (2, 1), (3, 1, 2), (1, 2, 3, 4)):
+            for call in (row_number, count_early_rows, early_rows):
+                self.assert_steady(call, row, 0, 5)
+            self.assert_steady(origins_of, row, 0, 1)
+            self.assert_steady(greatest_age, row, 0)
+
+    def test_functions_of_losses(self):
+        for losses in ((), ((1, 0),), ((1, 0), (2, 1), (100, 1))):
+            self.assert_steady(run_with_losses, (3, 2, 1), 0, losses, 5)
+            self.assert_steady(needed_with_losses, (3, 2, 1), 0, losses)
 
     def test_a_rejected_value_does_not_change(self):
         for error_class, call in REJECTING_CALLS:
@@ -132,6 +182,14 @@ class ConventionsTest(ExactCase):
                         self.assertEqual(exact(value), before)
                         (kept,) = vars(caught.exception).values()
                         self.assertIs(kept, value)
+
+    def test_a_value_that_is_refused_without_being_kept(self):
+        for error_class, accepted, call in PLAIN_CALLS:
+            for value in VALUES:
+                if value not in accepted:
+                    before = exact(value)
+                    self.assert_error(error_class, {}, call, value)
+                    self.assertEqual(exact(value), before)
 
     def test_a_call_after_an_error_is_as_before(self):
         for error_class, call in REJECTING_CALLS:

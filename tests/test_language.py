@@ -209,6 +209,8 @@ class CodeTest(unittest.TestCase):
             elif isinstance(node, ast.Call) and isinstance(node.func, ast.Name):
                 if node.func.id in ITERATING and node.args:
                     allowed.extend(node.args if node.func.id == "zip" else node.args[:1])
+                if node.func.id == "reversed" and ast.unparse(node.args[0]).startswith("range("):
+                    allowed.append(node.args[0])
         for file, node in nodes():
             if isinstance(node, ast.Call) and isinstance(node.func, ast.Name):
                 if node.func.id in ITERATED_AT_ONCE:
