@@ -118,20 +118,23 @@ def late_keys(row, start, rounds):
     return tuple([(threshold, place) for threshold, place, delay in keys if delay > rounds])
 
 
-def certificate(row, start, rounds):
-    """Return ("sorted",), or ("late", threshold, place) with the first one of the late keys."""
-    late = late_keys(row, start, rounds)
+def certificate_for(late):
+    """Return ("sorted",) if no key is late, or ("late", threshold, place) with the first late key."""
     if len(late) == 0:
         return ("sorted",)
     threshold, place = late[0]
     return ("late", threshold, place)
 
 
-def certificate_holds(row, start, rounds, value):
-    """Return whether value is a certificate for the row, the start and the rounds."""
+def certificate(row, start, rounds):
+    """Return ("sorted",), or ("late", threshold, place) with the first one of the late keys."""
+    return certificate_for(late_keys(row, start, rounds))
+
+
+def is_certificate_for(late, value):
+    """Return whether value is ("sorted",) and no key is late, or ("late", threshold, place) of one."""
     if not isinstance(value, tuple):
         return False
-    late = late_keys(row, start, rounds)
     if value == ("sorted",):
         return len(late) == 0
     if len(value) != 3 or value[0] != "late":
@@ -140,6 +143,11 @@ def certificate_holds(row, start, rounds, value):
     if not is_plain_integer(value[1]) or not is_plain_integer(value[2]):
         return False
     return value[1:] in late
+
+
+def certificate_holds(row, start, rounds, value):
+    """Return whether value is a certificate for the row, the start and the rounds."""
+    return is_certificate_for(late_keys(row, start, rounds), value)
 
 
 def is_within(one, other):

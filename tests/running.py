@@ -152,3 +152,22 @@ def defined_lag(one, other):
             if in_one < in_other:
                 lags.append((threshold, place))
     return min(lags, default=None)
+
+
+def replayed(row, start, actions):
+    """Return (row, rounds, exchanges, lost places) after these actions of a runner, from the beginning."""
+    items = list(row)
+    rounds = exchanges = 0
+    lost = set()
+    for action in actions:
+        if action[0] == "lose":
+            lost.add(action[1])
+        else:
+            for repeat in range(action[1] if action[0] == "steps" else 1):
+                rounds += 1
+                for p in pairs_of_round(len(items), start, rounds):
+                    if p not in lost and items[p] > items[p + 1]:
+                        items[p], items[p + 1] = items[p + 1], items[p]
+                        exchanges += 1
+                lost = set()
+    return tuple(items), rounds, exchanges, tuple(sorted(lost))

@@ -8,7 +8,8 @@ from oddrounds.counting import next_marks, row_at, row_number, rounds_counts, ro
 from oddrounds.delays import arrivals, better_start, certificate, certificate_holds, critical_keys
 from oddrounds.delays import delays, exchange_path, exchange_path_holds, is_within, late_keys
 from oddrounds.delays import needed_rounds, threshold_rounds, threshold_table, travel_bound, waits
-from oddrounds.errors import BadLosses, BadMarks, NoIndex, NoKey, NoPlace, NoThreshold
+from oddrounds.errors import BadLosses, BadMarks, BadRow, BadText, NoIndex, NoKey, NoPlace, NoRounds
+from oddrounds.errors import NoThreshold, NoVersion
 from oddrounds.losses import are_losses, first_lag, harmful_losses, idle_pairs, needed_with_losses
 from oddrounds.losses import round_losses, run_with_losses
 from oddrounds.origins import count_early_rows, count_origins, early_rows, first_disorder, greatest_age
@@ -20,16 +21,28 @@ from oddrounds.rounds import after_round, after_rounds, compared_places, count_e
 from oddrounds.rounds import exchanged_places, history
 from oddrounds.rows import inversions, is_key, is_row, light_places, mirror, ranks, row_error
 from oddrounds.rows import thresholds
+from oddrounds.runners import Runner
+from oddrounds.shells import Shell
+from oddrounds.texts import certificate_text, parse_certificate, parse_row, parse_start, row_text
+from oddrounds.texts import start_text
+from oddrounds.ties import is_tied_row, item_origins, standard_form, tied_after_rounds, tied_certificate
+from oddrounds.ties import tied_certificate_holds, tied_delays, tied_inversions, tied_needed_rounds
 from tests.checks import BIG, OTHER_VALUES, SAMPLE_ROWS, ExactCase, exact
 
-VALUE_FUNCTIONS = (is_key, is_row, row_error, is_pattern, is_marks)
-ROW_FUNCTIONS = (ranks, mirror, inversions, thresholds, better_start, travel_bound)
-START_FUNCTIONS = (needed_rounds, threshold_table, critical_keys, harmful_losses)
+VALUE_FUNCTIONS = (is_key, is_row, row_error, is_pattern, is_marks, is_tied_row)
+ROW_FUNCTIONS = (
+    ranks, mirror, inversions, thresholds, better_start, travel_bound, standard_form, tied_inversions,
+    row_text,
+)
+START_FUNCTIONS = (
+    needed_rounds, threshold_table, critical_keys, harmful_losses, tied_needed_rounds, start_text,
+)
 ROUNDS_FUNCTIONS = (
     exchanged_places, after_round, after_rounds, history, count_exchanges, late_keys, certificate,
-    row_after, first_disorder, count_origins, round_losses, idle_pairs,
+    row_after, first_disorder, count_origins, round_losses, idle_pairs, tied_after_rounds, item_origins,
+    tied_certificate,
 )
-THRESHOLD_FUNCTIONS = (waits, delays, arrivals, threshold_rounds)
+THRESHOLD_FUNCTIONS = (waits, delays, arrivals, threshold_rounds, tied_delays)
 KEY_FUNCTIONS = (path_of, last_move, moves_of)
 PATTERNS = ((1, 2), (0, 2, 1), (7,), (3, 1, 4, 1, 5), (0, 10 ** 11, 2, 3))
 VALUES = (
@@ -61,6 +74,8 @@ REJECTING_CALLS = (
     (NoIndex, lambda value: marks_at(1, 1, 0, 0, value)),
     (NoIndex, lambda value: row_at(1, 0, 0, value)),
     (NoIndex, lambda value: origin_at((0,), 0, 1, value)),
+    (NoThreshold, lambda value: tied_delays((0, 5, 0), 0, value)),
+    (NoPlace, lambda value: Runner((2, 1), 0).lose(value)),
 )
 # Errors without the value, for all values of VALUES but those in the tuple.
 PLAIN_CALLS = (
@@ -91,6 +106,7 @@ class ConventionsTest(ExactCase):
                 self.assert_steady(certificate_holds, (3, 1, 2), 0, rounds, value)
             self.assert_steady(exchange_path_holds, (1, 2), (2, 1), value)
             self.assert_steady(are_losses, (3, 1, 2), 0, value)
+            self.assert_steady(tied_certificate_holds, (3, 1, 3), 0, 1, value)
             self.assert_steady(origin_index, (1, 3, 2), 0, 1, value)
 
     def test_functions_of_a_row(self):
@@ -203,3 +219,70 @@ class ConventionsTest(ExactCase):
         error = row_error(value)
         value[0].append(2)
         self.assert_exact(error, (0, "key"))
+
+    def test_texts(self):
+        for text in ("7", "3 1 2"):
+            self.assert_steady(parse_row, text)
+            self.assert_steady(parse_start, "1: " + text)
+        for value in (("sorted",), ("late", 3, 1)):
+            self.assert_steady(certificate_text, value)
+            self.assert_steady(parse_certificate, certificate_text(value))
+
+    def test_values_that_are_no_texts(self):
+        for call in (parse_row, parse_start, parse_certificate):
+            for value in VALUES:
+                if not isinstance(value, str):
+                    before = exact(value)
+                    self.assert_error(BadText, {"index": None}, call, value)
+                    self.assertEqual(exact(value), before)
+
+
+class ObjectsTest(ExactCase):
+    def state(self, runner):
+        return [
+            runner.row(), runner.rounds(), runner.exchanges(), runner.lost(), runner.compared(),
+            runner.remaining(), runner.actions(), len(runner), str(runner),
+        ]
+
+    def test_values_that_a_runner_refuses(self):
+        runner = Runner((4, 3, 2, 1), 0)
+        runner.lose(2)
+        before = exact(self.state(runner))
+        for value in VALUES:
+            kept = exact(value)
+            if exact(value) != exact(0):
+                self.assert_error(NoPlace, {"value": value}, runner.lose, value)
+            self.assert_error(NoRounds, {"value": value}, runner.steps, value)
+            if value is not None and exact(value) != exact(0):
+                with self.assertRaises(NoVersion):
+                    runner.row(version=value)
+            self.assertEqual(exact(value), kept)
+            self.assertEqual(exact(self.state(runner)), before)
+
+    def test_equal_queries_give_equal_results(self):
+        runner = Runner((4, 3, 2, 1), 0)
+        runner.step()
+        self.assert_exact(self.state(runner), self.state(runner))
+        self.assert_exact(self.state(runner), self.state(runner.copy()))
+
+    def test_a_value_that_is_no_row_does_not_change(self):
+        for value in VALUES:
+            kept = exact(value)
+            error = row_error(value)
+            if error is not None:
+                self.assert_error(BadRow, {"error": error}, Runner, value, 0)
+            self.assertEqual(exact(value), kept)
+
+    def test_lines_do_not_change(self):
+        shell = Shell(Runner((2, 1), 0))
+        for value in VALUES:
+            kept = exact(value)
+            shell.execute(value)
+            self.assertEqual(exact(value), kept)
+
+    def test_a_line_that_changes_later_has_no_effect(self):
+        shell = Shell(Runner((2, 1), 0))
+        line = ["step"]
+        shell.execute(line)
+        line.clear()
+        self.assert_exact(shell.transcript(), ((None, "unknown command"),))

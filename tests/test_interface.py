@@ -100,6 +100,25 @@ FUNCTIONS = {
         "harmful_losses": ["row", "start"],
         "first_lag": ["one", "other"],
     },
+    "ties": {
+        "is_tied_row": ["value"],
+        "standard_form": ["row"],
+        "tied_after_rounds": ["row", "start", "rounds"],
+        "item_origins": ["row", "start", "rounds"],
+        "tied_inversions": ["row"],
+        "tied_delays": ["row", "start", "threshold"],
+        "tied_needed_rounds": ["row", "start"],
+        "tied_certificate": ["row", "start", "rounds"],
+        "tied_certificate_holds": ["row", "start", "rounds", "value"],
+    },
+    "texts": {
+        "row_text": ["row"],
+        "parse_row": ["value"],
+        "start_text": ["row", "start"],
+        "parse_start": ["value"],
+        "certificate_text": ["certificate"],
+        "parse_certificate": ["value"],
+    },
 }
 
 CLASSES = {
@@ -108,6 +127,36 @@ CLASSES = {
         "NoKey", "NoPlace", "NoRounds", "NoThreshold", "NoVersion", "NothingToUndo", "Rejected",
         "TooLong", "TooMany", "TooManyActions", "TooSlow",
     ),
+    "runners": ("Runner",),
+    "shells": ("Shell",),
+}
+
+# The methods of each class with their parameters, those that are passed by keyword with their default.
+METHODS = {
+    ("runners", "Runner"): {
+        "__init__": (["row", "start"], {}),
+        "step": ([], {}),
+        "steps": (["count"], {}),
+        "lose": (["place"], {}),
+        "undo": ([], {}),
+        "row": ([], {"version": None}),
+        "rounds": ([], {"version": None}),
+        "exchanges": ([], {"version": None}),
+        "lost": ([], {"version": None}),
+        "compared": ([], {}),
+        "remaining": ([], {}),
+        "actions": ([], {}),
+        "apply": (["batch"], {"on_step": None}),
+        "copy": ([], {}),
+        "__len__": ([], {}),
+        "__eq__": (["other"], {}),
+        "__str__": ([], {}),
+    },
+    ("shells", "Shell"): {
+        "__init__": (["runner"], {}),
+        "execute": (["value"], {}),
+        "transcript": ([], {}),
+    },
 }
 
 
@@ -122,7 +171,7 @@ class InterfaceTest(unittest.TestCase):
         self.assertTrue((FOLDER / "__init__.py").is_file())
 
     def test_modules_can_be_imported(self):
-        for module in ("errors", "bounds", *FUNCTIONS):
+        for module in ("errors", "bounds", "runners", "shells", *FUNCTIONS):
             importlib.import_module(f"oddrounds.{module}")
 
     def test_functions_are_defined_in_their_file(self):
@@ -146,3 +195,16 @@ class InterfaceTest(unittest.TestCase):
             names = defined_names(module, ast.ClassDef)
             for name in classes:
                 self.assertIn(name, names)
+
+    def test_methods_are_defined_in_their_class_and_take_the_listed_parameters(self):
+        for (module, name), methods in METHODS.items():
+            kind = getattr(importlib.import_module(f"oddrounds.{module}"), name)
+            for method, (positional, by_keyword) in methods.items():
+                self.assertIn(method, vars(kind))
+                parameters = list(inspect.signature(vars(kind)[method]).parameters.values())[1:]
+                plain = [p for p in parameters if p.kind is inspect.Parameter.POSITIONAL_OR_KEYWORD]
+                named = [p for p in parameters if p.kind is inspect.Parameter.KEYWORD_ONLY]
+                self.assertEqual(len(plain) + len(named), len(parameters))
+                self.assertEqual([p.name for p in plain], positional)
+                self.assertTrue(all(p.default is inspect.Parameter.empty for p in plain))
+                self.assertEqual({p.name: p.default for p in named}, by_keyword)

@@ -221,3 +221,77 @@ class CodeTest(unittest.TestCase):
             if isinstance(node, ast.BinOp) and isinstance(node.op, ast.Pow):
                 self.assertIsInstance(node.right, ast.Constant, file)
                 self.assertTrue(0 <= node.right.value <= 64, file)
+
+
+class ClassesTest(unittest.TestCase):
+    def classes(self):
+        return [node for file, node in nodes() if isinstance(node, ast.ClassDef)]
+
+    def methods(self):
+        return [part for node in self.classes() for part in node.body if isinstance(part, ast.FunctionDef)]
+
+    def test_double_underscore_methods(self):
+        allowed = ("__init__", "__eq__", "__str__", "__len__")
+        for method in self.methods():
+            if method.name.startswith("__"):
+                self.assertIn(method.name, allowed)
+
+    def test_no_name_is_a_method_and_an_attribute(self):
+        names = [method.name for method in self.methods()]
+        for file, node in nodes():
+            if isinstance(node, ast.Attribute) and isinstance(node.ctx, ast.Store):
+                self.assertNotIn(node.attr, names, file)
+
+    def test_attributes_that_are_read_are_assigned(self):
+        attributes = [n for file, n in nodes() if isinstance(n, ast.Attribute)]
+        stored = [node.attr for node in attributes if isinstance(node.ctx, ast.Store)]
+        called = [node.func for file, node in nodes() if isinstance(node, ast.Call)]
+        for node in attributes:
+            if isinstance(node.ctx, ast.Load) and not [part for part in called if part is node]:
+                self.assertIn(node.attr, stored)
+
+    def test_methods_that_only_answer_assign_nothing(self):
+        for method in self.methods():
+            if method.name in ("__eq__", "__str__", "__len__"):
+                for node in ast.walk(method):
+                    self.assertNotIsInstance(node, (ast.Assign, ast.AugAssign, ast.NamedExpr, ast.Delete))
+                self.assertIsInstance(method.body[-1], ast.Return)
+
+    def test_no_generator_expressions(self):
+        # The package has a class with __eq__, so that any, all, max and the like take lists.
+        for file, node in nodes():
+            self.assertNotIsInstance(node, (ast.GeneratorExp, ast.Yield, ast.YieldFrom), file)
+
+    def test_errors_are_raised_on_the_spot(self):
+        errors = [part.name for part in TREES[FOLDER / "errors.py"].body if isinstance(part, ast.ClassDef)]
+        for file, node in nodes():
+            if isinstance(node, ast.Raise):
+                self.assertIsInstance(node.exc, ast.Call, file)
+                self.assertIn(node.exc.func.id, errors, file)
+
+    def test_only_own_errors_are_caught(self):
+        errors = [part.name for part in TREES[FOLDER / "errors.py"].body if isinstance(part, ast.ClassDef)]
+        for file, node in nodes():
+            if isinstance(node, ast.ExceptHandler):
+                names = node.type.elts if isinstance(node.type, ast.Tuple) else [node.type]
+                for name in names:
+                    self.assertIn(name.id, errors, file)
+
+    def test_finally_only_assigns_plain_names_and_literals(self):
+        for file, node in nodes():
+            if isinstance(node, ast.Try):
+                for part in node.finalbody:
+                    self.assertIsInstance(part, ast.Assign, file)
+                    self.assertIsInstance(part.value, (ast.Name, ast.Constant), file)
+
+    def test_sets_stand_in_sorted_only(self):
+        for file, node in nodes():
+            self.assertNotIsInstance(node, (ast.Set, ast.SetComp), file)
+        allowed = []
+        for file, node in nodes():
+            if isinstance(node, ast.Call) and isinstance(node.func, ast.Name):
+                if node.func.id in ("sorted", "len"):
+                    allowed.extend(node.args)
+        for file, node in nodes():
+            if isinstance(node, ast.Call) and isinstance(node.func, ast.Name) and node.func.id == "set":
+                self.assertTrue([part for part in allowed if part is node], (file, node.lineno))

@@ -47,6 +47,12 @@ class IsMarksTest(ExactCase):
         for value in (*wrong, *OTHER_VALUES):
             self.assert_exact(is_marks(value), False)
 
+    def test_every_other_character(self):
+        for number in (10, *range(32, 127)):
+            letter = chr(number)
+            self.assert_exact(is_marks(letter), letter in ("H", "L"))
+            self.assert_exact(is_marks("LH" + letter + "L"), letter in ("H", "L"))
+
 
 class MarksOfTest(ExactCase):
     def test_example(self):
