@@ -41,6 +41,14 @@ class ApplyTest(RunnerCase):
                     self.assert_exact(runner.apply(batch), many)
                     self.assert_state(runner, row, start, actions)
 
+    def test_batches_of_every_length(self):
+        for many in range(21):
+            actions = random_actions(SHUFFLED_24, 0, many, many)
+            for batch in (actions, tuple(actions)):
+                runner = Runner(SHUFFLED_24, 0)
+                self.assert_exact(runner.apply(batch), many)
+                self.assert_state(runner, SHUFFLED_24, 0, actions)
+
     def test_several_batches(self):
         actions = random_actions(SHUFFLED_24, 1, 4, 60)
         runner = Runner(SHUFFLED_24, 1)

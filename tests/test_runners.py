@@ -90,6 +90,18 @@ class ActionsTest(RunnerCase):
                     self.assert_exact(act(runner, action), version)
                 self.assert_state(runner, row, start, actions)
 
+    def test_rows_of_every_length(self):
+        for size, start in itertools.product(range(1, 25), STARTS):
+            row = tuple(random.Random(size).sample(range(1000), size))
+            actions = random_actions(row, start, size, 8)
+            runner = Runner(row, start)
+            for version, action in enumerate(actions, start=1):
+                self.assert_exact(act(runner, action), version)
+            self.assert_state(runner, row, start, actions)
+            for many in (7, 6, 5):
+                self.assert_exact(runner.undo(), many)
+            self.assert_state(runner, row, start, actions[:5])
+
     def test_every_answer_after_every_action(self):
         for row, start in itertools.product(((7,), (2, 1), (4, 3, 2, 1), SHUFFLED_24), STARTS):
             actions = random_actions(row, start, 7, 15)

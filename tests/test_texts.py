@@ -1,6 +1,7 @@
 """Points 107 to 113: texts."""
 
 import itertools
+import re
 
 from oddrounds.bounds import MAX_KEY
 from oddrounds.errors import BadText
@@ -15,6 +16,49 @@ NO_KEYS = (
     "10000000000000", "1" * 14, "9" * 40, "1" * 2500, "0" * 2500, "0" * 13 + "1",
 )
 LONG_TEXT = " ".join(str(key) for key in range(24))
+
+
+
+def slow_parse_row(text):
+    """Return the row whose text this is, or the index of the first wrong part."""
+    parts = text.split(" ")
+    for index, part in enumerate(parts):
+        number = re.fullmatch("0|[1-9][0-9]{0,12}", part)
+        if number is None or int(part) > MAX_KEY or part in parts[:index] or index > 23:
+            return index
+    return tuple(int(part) for part in parts)
+
+
+def slow_parse_certificate(text):
+    """Return the certificate whose text this is, or the index of the first wrong part."""
+    if text == "sorted":
+        return ("sorted",)
+    word, *parts = text.split(" ")
+    if word != "late":
+        return 0
+    if not parts or isinstance(slow_parse_row(parts[0]), int):
+        return 1
+    if len(parts) < 2 or parts[1] not in [str(place) for place in range(24)]:
+        return 2
+    return 3 if len(parts) > 2 else ("late", int(parts[0]), int(parts[1]))
+
+
+def changed_texts(text):
+    """Yield the text with a character or a part changed, added, removed or repeated."""
+    for at in range(len(text) + 1):
+        yield text[:at] + text[at + 1:]
+        yield text[:at] + text[at:at + 1] + text[at:]
+        for letter in " 0123456789:-+,.xLls\n":
+            yield text[:at] + letter + text[at:]
+            yield text[:at] + letter + text[at + 1:]
+    parts = text.split(" ")
+    for at in range(len(parts)):
+        yield " ".join(parts[:at] + parts[at + 1:])
+        yield " ".join(parts[:at + 1] + parts[at:])
+        yield " ".join([*parts, parts[at]])
+        for part in NO_KEYS:
+            yield " ".join([*parts[:at], part, *parts[at + 1:]])
+            yield " ".join([*parts[:at], part, *parts[at:]])
 
 
 class ExamplesTest(ExactCase):
@@ -175,3 +219,31 @@ class CertificateTextTest(ExactCase):
     def test_more_parts(self):
         for rest in (" ", " 3", "  ", " x", " 2 2", " late 1 2", " sorted", " \n"):
             self.assert_bad("late 5 2" + rest, 3)
+
+
+class ChangedTextsTest(ExactCase):
+    def assert_parsed(self, call, text, expected):
+        """Check a result, or the index of a BadText."""
+        if expected is None or isinstance(expected, int):
+            self.assert_error(BadText, {"index": expected}, call, text)
+        else:
+            self.assert_exact(call(text), expected)
+
+    def test_rows(self):
+        for text in ("7", "50 10 30", "0 1000000000000 5", LONG_TEXT):
+            for changed in changed_texts(text):
+                self.assert_parsed(parse_row, changed, slow_parse_row(changed))
+
+    def test_rows_with_a_start(self):
+        for text in ("0: 7", "1: 50 10 30", "0: 0 1000000000000 5"):
+            for changed in changed_texts(text):
+                begin, rest = changed[:3], changed[3:]
+                expected = slow_parse_row(rest) if begin in ("0: ", "1: ") else None
+                if isinstance(expected, tuple):
+                    expected = (expected, int(begin[0]))
+                self.assert_parsed(parse_start, changed, expected)
+
+    def test_certificates(self):
+        for text in ("sorted", "late 30 2", "late 1000000000000 23", "late 0 0"):
+            for changed in changed_texts(text):
+                self.assert_parsed(parse_certificate, changed, slow_parse_certificate(changed))
